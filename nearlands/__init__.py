@@ -1,0 +1,1 @@
+"""Nearlands: the land of each spot, told exactly."""
