@@ -37,6 +37,11 @@ def point_at(x, y):
     return (int(x * w), int(y * w), w)
 
 
+def turned(line):
+    """Tell the line with the same points, and before and behind exchanged."""
+    return tuple(-number for number in line)
+
+
 def sign_of(number):
     return (number > 0) - (number < 0)
 
@@ -93,20 +98,21 @@ def check_kind(test, numbers):
         test.assertIs(type(number), int)
 
 
+def check_lowest(test, numbers, count):
+    """Fail unless this is a tuple of so many whole numbers, in lowest terms, the last of them above 0."""
+    test.assertIs(type(numbers), tuple)
+    test.assertEqual(len(numbers), count)
+    check_kind(test, numbers)
+    test.assertGreaterEqual(numbers[-1], 1)
+    test.assertEqual(gcd(*numbers), 1)
+
+
 def check_point(test, point):
-    test.assertIs(type(point), tuple)
-    test.assertEqual(len(point), 3)
-    check_kind(test, point)
-    test.assertGreaterEqual(point[2], 1)
-    test.assertEqual(gcd(*point), 1)
+    check_lowest(test, point, 3)
 
 
 def check_fraction(test, fraction):
-    test.assertIs(type(fraction), tuple)
-    test.assertEqual(len(fraction), 2)
-    check_kind(test, fraction)
-    test.assertGreaterEqual(fraction[1], 1)
-    test.assertEqual(gcd(*fraction), 1)
+    check_lowest(test, fraction, 2)
 
 
 def check_field(test, field):
