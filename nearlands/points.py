@@ -21,6 +21,16 @@ def fraction_of(top, bottom):
     return (top // common, bottom // common)
 
 
+def less(one, other):
+    """Tell whether the one fraction is less than the other."""
+    return one[0] * other[1] < other[0] * one[1]
+
+
+def difference(one, other):
+    """Tell the fraction that is the one less the other."""
+    return fraction_of(one[0] * other[1] - other[0] * one[1], one[1] * other[1])
+
+
 def ahead(one, other):
     """Tell whether the one point is ahead of the other."""
     across = one[0] * other[2] - other[0] * one[2]
@@ -53,3 +63,10 @@ def square(point, spot):
 def nearer(point, one, other):
     """Tell -1, 1 or 0: the one spot is nearer to the point, the other is, or neither."""
     return sign(scaled_square(point, one) - scaled_square(point, other))
+
+
+def nearest_of(spots, point):
+    """Tell the rising list of the numbers of all spots that are nearest to the point."""
+    ways = [scaled_square(point, spot) for spot in spots]
+    least = min(ways)
+    return [number for number, way in enumerate(ways) if way == least]

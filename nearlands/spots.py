@@ -12,10 +12,16 @@ def check_box(box):
         raise NoBox("the ends of a box do not rise")
 
 
+def has_point(box, point):
+    """Tell whether the point lies in the box or on its sides."""
+    x, y, u, v = box
+    across, up, w = point
+    return x * w <= across <= u * w and y * w <= up <= v * w
+
+
 def in_box(box, spot):
     """Tell whether the spot lies in the box or on its sides."""
-    x, y, u, v = box
-    return x <= spot[0] <= u and y <= spot[1] <= v
+    return has_point(box, (spot[0], spot[1], 1))
 
 
 def check_count(spots):

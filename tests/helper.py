@@ -3,12 +3,19 @@
 from fractions import Fraction
 from math import gcd
 
+from nearlands.errors import LandError, NoSpot
+
 
 def big(k):
     """Tell the k-th of a row of numbers of thirty figures that look like chance but never change."""
     number = pow(7, 1000 + 13 * k, 10 ** 31 - 27) % (9 * 10 ** 29) + 10 ** 29
     assert len(str(number)) == 30
     return number
+
+
+def big_26(k):
+    """Tell the k-th of such a row of numbers of twenty-six figures."""
+    return big(k) // 10 ** 4
 
 
 def small(k, low, high):
@@ -60,6 +67,22 @@ def way_square(point, spot):
 def nearest_spots(spots, point):
     ways = [way_square(point, spot) for spot in spots]
     return [number for number, way in enumerate(ways) if way == min(ways)]
+
+
+def centre_of(one, other, third):
+    """Tell the point that is as near to each of three spots, None where they lie on one line."""
+    (a, b), (c, d), (e, f) = one, other, third
+    bend = 2 * (a * (d - f) + c * (f - b) + e * (b - d))
+    if bend == 0:
+        return None
+    x = (a * a + b * b) * (d - f) + (c * c + d * d) * (f - b) + (e * e + f * f) * (b - d)
+    y = (a * a + b * b) * (e - c) + (c * c + d * d) * (a - e) + (e * e + f * f) * (c - a)
+    return point_at(Fraction(x, bend), Fraction(y, bend))
+
+
+def in_order(points):
+    """Tell the points, each once, in rising order, by Python's fractions."""
+    return sorted(set(points), key=where)
 
 
 def middle(*points):
@@ -115,6 +138,15 @@ def check_fraction(test, fraction):
     check_lowest(test, fraction, 2)
 
 
+def check_refused(test, kind, call, at=None):
+    """Fail unless the call is refused with just this class, and for NoSpot with this field at."""
+    with test.assertRaises(LandError) as told:
+        call()
+    test.assertIs(type(told.exception), kind)
+    if kind is NoSpot:
+        test.assertEqual(told.exception.at, at)
+
+
 def check_field(test, field):
     """Fail unless this is a field."""
     test.assertIs(type(field), tuple)
@@ -134,3 +166,64 @@ def check_field(test, field):
                 test.assertEqual(side_of(start, end, corner), 1)
     for corner in corners[1:]:
         test.assertLess(where(corners[0]), where(corner))
+
+
+RING = [(5, 0), (4, 3), (3, 4), (0, 5), (-3, 4), (-4, 3), (-5, 0), (-4, -3), (-3, -4), (0, -5), (3, -4), (4, -3)]
+
+# Boxes with spots: one, two, on a line (level, upright, oblique), on a grid, on a ring, with its middle,
+# on sides and corners of the box, and twelve anywhere.
+CASES = {
+    "one": ((0, 0, 4, 3), [(1, 1)]),
+    "one at a corner": ((0, 0, 4, 3), [(4, 3)]),
+    "two": ((0, 0, 4, 2), [(1, 1), (3, 1)]),
+    "two, oblique": ((-3, -3, 6, 5), [(4, 2), (-1, 0)]),
+    "two side by side at the edge": ((0, 0, 1, 9), [(1, 9), (0, 9)]),
+    "level line": ((0, 0, 20, 3), [(1, 1), (4, 1), (19, 1), (9, 1)]),
+    "upright line": ((0, 0, 3, 20), [(0, 20), (0, 7), (0, 1), (0, 0)]),
+    "oblique line": ((0, 0, 10, 10), [(1, 1), (9, 9), (5, 5), (3, 3), (0, 0), (10, 10)]),
+    "grid": ((0, 0, 6, 4), [(x, y) for x in (0, 2, 4, 6) for y in (0, 2, 4)]),
+    "grid within": ((0, 0, 9, 9), [(x, y) for y in (7, 4, 1) for x in (1, 4, 7)]),
+    "ring": ((-6, -7, 8, 9), RING),
+    "ring that touches the box": ((-5, -5, 5, 5), RING),
+    "ring with its middle": ((-6, -7, 8, 9), RING[:11] + [(0, 0)]),
+    "half a ring": ((-5, -1, 5, 9), [(0, 0)] + RING[:7]),
+    "corners": ((0, 0, 5, 3), [(0, 0), (5, 3), (0, 3), (5, 0)]),
+    "sides and corners": ((0, 0, 8, 6), [(0, 0), (8, 6), (4, 0), (4, 6), (0, 3), (8, 3), (8, 0), (4, 3)]),
+    "twelve": ((0, 0, 99, 99), [(small(k, 0, 99), small(k + 500, 0, 99)) for k in range(12)]),
+    "twelve close together": ((0, 0, 3, 2), [(x, y) for x in range(4) for y in range(3)]),
+    "twelve in a wide box": ((-900, -900, 900, 900), [(small(k, -9, 9), small(k + 700, -9, 9)) for k in range(12)]),
+    "thirty figures": (
+        (-big(900), -big(901), big(902), big(903)),
+        [((-1) ** k * (big(k) // 10), (-1) ** (k // 2) * (big(k + 50) // 10)) for k in range(12)],
+    ),
+}
+
+
+def moved_case(box, spots, scale, dx, dy):
+    x, y, u, v = box
+    return (
+        (x * scale + dx, y * scale + dy, u * scale + dx, v * scale + dy),
+        [(x * scale + dx, y * scale + dy) for x, y in spots],
+    )
+
+
+def some_points(box, told):
+    """Tell points of a box: corners of lands, middles of edges and lands, and some between its sides."""
+    x, y, u, v = box
+    points = [point_at(x + Fraction((u - x) * i, 7), y + Fraction((v - y) * j, 5)) for i in range(8) for j in range(6)]
+    for field in told:
+        points += field[0] + [middle(start, end) for start, end, _ in sides(field)] + [middle(*field[0])]
+    return sorted(set(points))
+
+
+def some_spots(box, k, count):
+    """Tell so many spots of a small box (or all where it has fewer) that look like chance but never change."""
+    places = [(x, y) for x in range(box[0], box[2] + 1) for y in range(box[1], box[3] + 1)]
+    return sorted(places, key=lambda spot: small(7 * spot[0] + 31 * spot[1] + 100 * k, 0, 10 ** 5))[:count]
+
+
+def small_cases(count):
+    """Tell so many small boxes with spots."""
+    for k in range(count):
+        box = (-2, -1, small(k, 1, 5), small(k + 90, 2, 4))
+        yield box, some_spots(box, k, small(k + 40, 1, 12))

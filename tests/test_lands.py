@@ -6,57 +6,11 @@ from fractions import Fraction
 from nearlands.fields import area
 from nearlands.lands import land_of, lands
 from tests.helper import (
-    big, check_field, copied, has_point, middle, moved, nearest_spots, point_at, sides, small, way_square, where,
+    CASES, big, check_field, copied, has_point, middle, moved, moved_case, nearest_spots, sides, small_cases,
+    some_points, way_square, where,
 )
 
-RING = [(5, 0), (4, 3), (3, 4), (0, 5), (-3, 4), (-4, 3), (-5, 0), (-4, -3), (-3, -4), (0, -5), (3, -4), (4, -3)]
-
-# Boxes with spots: one, two, on a line (level, upright, oblique), on a grid, on a ring, with its middle,
-# on sides and corners of the box, and twelve anywhere.
-CASES = {
-    "one": ((0, 0, 4, 3), [(1, 1)]),
-    "one at a corner": ((0, 0, 4, 3), [(4, 3)]),
-    "two": ((0, 0, 4, 2), [(1, 1), (3, 1)]),
-    "two, oblique": ((-3, -3, 6, 5), [(4, 2), (-1, 0)]),
-    "two side by side at the edge": ((0, 0, 1, 9), [(1, 9), (0, 9)]),
-    "level line": ((0, 0, 20, 3), [(1, 1), (4, 1), (19, 1), (9, 1)]),
-    "upright line": ((0, 0, 3, 20), [(0, 20), (0, 7), (0, 1), (0, 0)]),
-    "oblique line": ((0, 0, 10, 10), [(1, 1), (9, 9), (5, 5), (3, 3), (0, 0), (10, 10)]),
-    "grid": ((0, 0, 6, 4), [(x, y) for x in (0, 2, 4, 6) for y in (0, 2, 4)]),
-    "grid within": ((0, 0, 9, 9), [(x, y) for y in (7, 4, 1) for x in (1, 4, 7)]),
-    "ring": ((-6, -7, 8, 9), RING),
-    "ring that touches the box": ((-5, -5, 5, 5), RING),
-    "ring with its middle": ((-6, -7, 8, 9), RING[:11] + [(0, 0)]),
-    "half a ring": ((-5, -1, 5, 9), [(0, 0)] + RING[:7]),
-    "corners": ((0, 0, 5, 3), [(0, 0), (5, 3), (0, 3), (5, 0)]),
-    "sides and corners": ((0, 0, 8, 6), [(0, 0), (8, 6), (4, 0), (4, 6), (0, 3), (8, 3), (8, 0), (4, 3)]),
-    "twelve": ((0, 0, 99, 99), [(small(k, 0, 99), small(k + 500, 0, 99)) for k in range(12)]),
-    "twelve close together": ((0, 0, 3, 2), [(x, y) for x in range(4) for y in range(3)]),
-    "twelve in a wide box": ((-900, -900, 900, 900), [(small(k, -9, 9), small(k + 700, -9, 9)) for k in range(12)]),
-    "thirty figures": (
-        (-big(900), -big(901), big(902), big(903)),
-        [((-1) ** k * (big(k) // 10), (-1) ** (k // 2) * (big(k + 50) // 10)) for k in range(12)],
-    ),
-}
-
 SIDE_PLACES = {-1: (1, 1), -2: (0, 2), -3: (1, 3), -4: (0, 0)}
-
-
-def moved_case(box, spots, scale, dx, dy):
-    x, y, u, v = box
-    return (
-        (x * scale + dx, y * scale + dy, u * scale + dx, v * scale + dy),
-        [(x * scale + dx, y * scale + dy) for x, y in spots],
-    )
-
-
-def some_points(box, told):
-    """Tell points of a box: corners of lands, middles of edges and lands, and some between its sides."""
-    x, y, u, v = box
-    points = [point_at(x + Fraction((u - x) * i, 7), y + Fraction((v - y) * j, 5)) for i in range(8) for j in range(6)]
-    for field in told:
-        points += field[0] + [middle(start, end) for start, end, _ in sides(field)] + [middle(*field[0])]
-    return sorted(set(points))
 
 
 class LandsTest(unittest.TestCase):
@@ -92,11 +46,7 @@ class LandsTest(unittest.TestCase):
                 self.check_lands(box, spots, lands(box, spots))
 
     def test_many_with_small_numbers(self):
-        for k in range(60):
-            box = (-2, -1, small(k, 1, 5), small(k + 90, 2, 4))
-            places = [(x, y) for x in range(box[0], box[2] + 1) for y in range(box[1], box[3] + 1)]
-            spots = sorted(places, key=lambda spot: small(7 * spot[0] + 31 * spot[1] + 100 * k, 0, 10 ** 5))
-            spots = spots[:small(k + 40, 1, 12)]
+        for box, spots in small_cases(60):
             self.check_lands(box, spots, lands(box, spots))
 
     def test_scaled_and_moved_to_thirty_figures(self):

@@ -4,7 +4,9 @@ import unittest
 
 from nearlands.errors import NoBox, NoSpot, TooMany
 from nearlands.lands import land_of, lands
+from nearlands.meetings import emptiest, holders, meetings
 from nearlands.spots import check_box_and_spots, check_spots
+from nearlands.takes import takes
 from tests.helper import big
 
 BOX = (0, 0, 10, 8)
@@ -20,6 +22,12 @@ def with_box(box, spots):
         lambda: land_of(box, spots, 0),
         lambda: land_of(box, spots, 99),
         lambda: land_of(box, spots, -1),
+        lambda: meetings(box, spots),
+        lambda: emptiest(box, spots),
+        lambda: holders(box, spots, (1, 1, 1)),
+        lambda: holders(box, spots, (-99, 1, 2)),
+        lambda: takes(box, spots, (9, 7)),
+        lambda: takes(box, spots, (99, 99)),
     )
 
 
