@@ -20,8 +20,12 @@ def lands(box, spots):
 
 def land_within(box, spots, number):
     """Tell the land of a spot, of a box and spots that aren't refused."""
-    field = box_field(box)
-    for other, spot in enumerate(spots):
-        if other != number:
-            field = cut(field, between(spots[number], spot), other)
+    others = [other for other in range(len(spots)) if other != number]
+    return cut_off(box_field(box), spots, number, others)
+
+
+def cut_off(field, spots, number, others):
+    """Tell what of the field, which has the spot of the number, is no nearer to any of the others."""
+    for other in others:
+        field = cut(field, between(spots[number], spots[other]), other)
     return field

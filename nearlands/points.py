@@ -13,6 +13,11 @@ def point_of(x, y, w):
     return (x // common, y // common, w // common)
 
 
+def spot_point(spot):
+    """Tell the point at which the spot stands."""
+    return (spot[0], spot[1], 1)
+
+
 def fraction_of(top, bottom):
     """Tell the fraction top by bottom."""
     if bottom == 0:

@@ -1,6 +1,7 @@
-"""What is refused wherever a box, spots, or both are handed in."""
+"""Boxes and spots: what is refused wherever they are handed in, what lies in a box, and the order of spots."""
 
 from nearlands.errors import NoBox, NoSpot, TooMany
+from nearlands.points import spot_point
 
 MOST_SPOTS = 12
 
@@ -21,7 +22,7 @@ def has_point(box, point):
 
 def in_box(box, spot):
     """Tell whether the spot lies in the box or on its sides."""
-    return has_point(box, (spot[0], spot[1], 1))
+    return has_point(box, spot_point(spot))
 
 
 def check_count(spots):
@@ -51,3 +52,8 @@ def check_number(spots, number):
     """Refuse a number that no spot has."""
     if number < 0 or number >= len(spots):
         raise NoSpot(number)
+
+
+def by_place(spots):
+    """Tell the numbers of the spots ordered by x, then by y."""
+    return sorted(range(len(spots)), key=lambda number: spots[number])

@@ -4,6 +4,7 @@ from fractions import Fraction
 from math import gcd
 
 from nearlands.errors import LandError, NoSpot
+from nearlands.lands import lands
 
 
 def big(k):
@@ -227,3 +228,39 @@ def small_cases(count):
     for k in range(count):
         box = (-2, -1, small(k, 1, 5), small(k + 90, 2, 4))
         yield box, some_spots(box, k, small(k + 40, 1, 12))
+
+
+def expected_reach(spots, one, other, box=None):
+    """Tell the ends of the reach of two spots (in a box, where one is told), None where it has no two points.
+
+    Each bound is a number that is to be from 0 on and changes evenly along the line between the two spots.
+    """
+    (a, b), (c, d) = spots[one], spots[other]
+    bounds = [lambda x, y, spot=spot: (x - spot[0]) ** 2 + (y - spot[1]) ** 2 - (x - a) ** 2 - (y - b) ** 2
+              for spot in spots]
+    if box is not None:
+        bounds += [lambda x, y: x - box[0], lambda x, y: y - box[1], lambda x, y: box[2] - x, lambda x, y: box[3] - y]
+
+    def at(place):
+        return Fraction(a + c, 2) + place * (b - d), Fraction(b + d, 2) + place * (c - a)
+
+    starts, ends = [], []
+    for bound in bounds:
+        here = bound(*at(0))
+        change = bound(*at(1)) - here
+        if change > 0:
+            starts.append(-here / change)
+        elif change < 0:
+            ends.append(-here / change)
+        elif here < 0:
+            return None
+    if starts and ends and max(starts) >= min(ends):
+        return None
+    return (point_at(*at(max(starts))) if starts else None, point_at(*at(min(ends))) if ends else None)
+
+
+def lot_lands(box, spots, lot):
+    """Tell the lands of a lot's spots as they are without the others, edges called by the numbers in spots."""
+    numbers = sorted(lot)
+    told = lands(box, [spots[number] for number in numbers])
+    return [(corners, [edge if edge < 0 else numbers[edge] for edge in edges]) for corners, edges in told]

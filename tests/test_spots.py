@@ -3,11 +3,14 @@
 import unittest
 
 from nearlands.errors import NoBox, NoSpot, TooMany
+from nearlands.fronts import front, passes
 from nearlands.lands import land_of, lands
 from nearlands.meetings import emptiest, holders, meetings
+from nearlands.seams import halves, joined, kept, seam
 from nearlands.spots import check_box_and_spots, check_spots
 from nearlands.takes import takes
-from tests.helper import big
+from nearlands.webs import cut_by, reach, rim, rings, ties
+from tests.helper import big, check_refused
 
 BOX = (0, 0, 10, 8)
 TWELVE = [(k, k % 5) for k in range(10)] + [(0, 8), (10, 0)]
@@ -28,6 +31,30 @@ def with_box(box, spots):
         lambda: holders(box, spots, (-99, 1, 2)),
         lambda: takes(box, spots, (9, 7)),
         lambda: takes(box, spots, (99, 99)),
+        lambda: seam(box, spots, [0]),
+        lambda: seam(box, spots, []),
+        lambda: kept(box, spots, [0]),
+        lambda: kept(box, spots, [0, 0]),
+        lambda: joined(box, spots, [0], [], []),
+        lambda: joined(box, spots, [-1], [], []),
+        lambda: cut_by(box, spots, []),
+    )
+
+
+def alone(spots):
+    """Tell all that take spots alone, each ready to be called."""
+    return (
+        lambda: check_spots(spots),
+        lambda: halves(spots),
+        lambda: front(spots, (7, 2)),
+        lambda: front(spots, (-big(1), 1)),
+        lambda: passes(spots),
+        lambda: reach(spots, 0, 1),
+        lambda: reach(spots, 99, 99),
+        lambda: reach(spots, -1, 0),
+        lambda: ties(spots),
+        lambda: rings(spots),
+        lambda: rim(spots),
     )
 
 
@@ -35,11 +62,7 @@ class WithBoxTest(unittest.TestCase):
     def check(self, kind, box, spots, at=None):
         handed = list(spots)
         for call in with_box(box, spots):
-            with self.assertRaises(kind) as told:
-                call()
-            self.assertIs(type(told.exception), kind)
-            if kind is NoSpot:
-                self.assertEqual(told.exception.at, at)
+            check_refused(self, kind, call, at)
             self.assertEqual(spots, handed)
 
     def test_taken(self):
@@ -89,14 +112,21 @@ class WithBoxTest(unittest.TestCase):
 
 
 class AloneTest(unittest.TestCase):
+    def check(self, kind, spots, at=None):
+        handed = list(spots)
+        for call in alone(spots):
+            check_refused(self, kind, call, at)
+            self.assertEqual(spots, handed)
+
     def test_taken(self):
         for spots in ([(5, 5)], [(-99, 99), (big(1), -big(2))], TWELVE):
             check_spots(spots)
+            for call in (passes, ties, rings, rim):
+                self.assertIs(type(call(spots)), list)
 
     def test_too_many(self):
-        for spots in ([], TWELVE + [(9, 7)], [(1, 1)] * 13):
-            with self.assertRaises(TooMany):
-                check_spots(spots)
+        for spots in ([], TWELVE + [(9, 7)], [(1, 1)] * 13, TWELVE + [TWELVE[0]]):
+            self.check(TooMany, spots)
 
     def test_alike(self):
         for spots, at in (
@@ -105,9 +135,7 @@ class AloneTest(unittest.TestCase):
             ([(0, 0), (big(1), big(2)), (big(1), big(2))], 2),
             (TWELVE[:11] + [TWELVE[0]], 11),
         ):
-            with self.assertRaises(NoSpot) as told:
-                check_spots(spots)
-            self.assertEqual(told.exception.at, at)
+            self.check(NoSpot, spots, at)
 
 
 class NumberTest(unittest.TestCase):
