@@ -8,7 +8,7 @@ from math import isqrt
 from nearlands.fronts import front, higher, passes
 from nearlands.roots import compare_roots
 from nearlands.webs import rings, ties
-from tests.helper import CASES, RING, big, big_26, check_kind, moved_case, sign_of, small, small_cases
+from tests.helper import CASES, RING, big, big_26, check_kind, moved_case, sign_of, small_cases
 
 # So near the tests work out roots; what differs at all in them differs by much more.
 CLOSE = 10 ** 300
@@ -345,8 +345,8 @@ class PassesTest(unittest.TestCase):
                 near.append(near[-1] + 1000)
                 for low, high in zip(near, near[1:]):
                     if high - low > FAR:
-                        places = [low + (high - low) * part for part in (Fraction(1, 999), Fraction(1, 2), Fraction(998, 999))]
-                        fronts = [front(spots, fraction(place)) for place in places]
+                        parts = (Fraction(1, 999), Fraction(1, 2), Fraction(998, 999))
+                        fronts = [front(spots, fraction(low + (high - low) * part)) for part in parts]
                         self.assertEqual(fronts[0], fronts[1])
                         self.assertEqual(fronts[1], fronts[2])
 

@@ -188,8 +188,9 @@ class HoldersTest(unittest.TestCase):
         self.assertEqual(holders(self.BOX, self.SPOTS, (4, 4, 1)), [2])
 
     def test_beyond_the_box(self):
-        for point in ((-1, 2, 1), (5, 2, 1), (2, -1, 1), (2, 5, 1), (-1, 10 ** 9, 10 ** 9), (2, 4 * 10 ** 65 + 1, 10 ** 65),
-                      (2 * 10 ** 65, -1, 10 ** 65), (4 * 10 ** 65 + 1, 1, 10 ** 65), (-9, -9, 1), (9, 9, 2)):
+        far = 10 ** 64
+        for point in ((-1, 2, 1), (5, 2, 1), (2, -1, 1), (2, 5, 1), (-1, 10 ** 9, 10 ** 9), (2, 4 * far + 1, far),
+                      (2 * far, -1, far), (4 * far + 1, 1, far), (-9, -9, 1), (9, 9, 2)):
             self.assertEqual(holders(self.BOX, self.SPOTS, point), [])
 
     def test_just_those_whose_land_has_the_point(self):

@@ -6,8 +6,8 @@ from nearlands.errors import NoBox, NoLot, NoSpot, TooMany
 from nearlands.lands import lands
 from nearlands.seams import halves, joined, kept, seam
 from tests.helper import (
-    CASES, big_26, check_kind, check_point, check_refused, copied, expected_reach, lot_lands, moved, moved_case, side_of,
-    small_cases, where,
+    CASES, big_26, check_kind, check_point, check_refused, copied, expected_reach, lot_lands, moved, moved_case,
+    side_of, small_cases, where,
 )
 
 BOX = (0, 0, 10, 8)
@@ -274,13 +274,14 @@ class OwnTest(unittest.TestCase):
             return told
 
         first = answers()
-        kept_first = list(first[0]), list(first[1]), (list(first[2][0]), list(first[2][1])), [copied(f) for f in first[3]]
-        for field in first[3]:
+        edges, numbers, (half, rest_half), fields = first
+        expected = list(edges), list(numbers), (list(half), list(rest_half)), [copied(field) for field in fields]
+        for field in fields:
             field[0].clear()
             field[1].append(9)
-        for told in (*first[:2], *first[2], first[3]):
+        for told in (edges, numbers, half, rest_half, fields):
             told.clear()
-        self.assertEqual(answers(), kept_first)
+        self.assertEqual(answers(), expected)
 
 
 if __name__ == "__main__":

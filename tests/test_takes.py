@@ -7,7 +7,9 @@ from nearlands.errors import NoBox, NoSpot, TooMany
 from nearlands.fields import area
 from nearlands.lands import land_of, lands
 from nearlands.takes import takes
-from tests.helper import CASES, RING, big, check_fraction, check_kind, check_refused, moved_case, small_cases, twice_area
+from tests.helper import (
+    CASES, RING, big, check_fraction, check_kind, check_refused, moved_case, small_cases, twice_area,
+)
 
 BOX = (0, 0, 10, 8)
 TWELVE = [(k, k % 5) for k in range(10)] + [(0, 8), (10, 0)]

@@ -389,7 +389,8 @@ class OwnTest(unittest.TestCase):
             first = answers(box, handed, tied)
             self.assertEqual((handed, tied), (spots, ties(spots)))
             told_ties, told_rings, told_rim, fields = first
-            kept = list(told_ties), [(a, b, list(c)) for a, b, c in told_rings], list(told_rim), [copied(f) for f in fields]
+            kept_rings = [(centre, way, list(around)) for centre, way, around in told_rings]
+            kept = list(told_ties), kept_rings, list(told_rim), [copied(field) for field in fields]
             for field in fields:
                 field[0].clear()
                 field[1].append(9)
