@@ -23,6 +23,15 @@ def cut(field, line, number):
     return from_first(rest(corners, edges, excesses, number))
 
 
+def cut_each(field, cuts):
+    """Tell what of the field isn't before any line of the cuts, tuples (line, number); None where it has no inside."""
+    for line, number in cuts:
+        if field is None:
+            return None
+        field = cut(field, line, number)
+    return field
+
+
 def rest(corners, edges, excesses, number):
     """Tell the corners of what is left behind a line that goes through the inside, each with its edge."""
     left = []

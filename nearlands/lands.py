@@ -1,8 +1,8 @@
 """The lands of spots in a box."""
 
-from nearlands.fields import box_field, cut
+from nearlands.fields import box_field, cut_each
 from nearlands.lines import between
-from nearlands.spots import check_box_and_spots, check_number
+from nearlands.spots import check_box_and_spots, check_number, others_of
 
 
 def land_of(box, spots, number):
@@ -20,12 +20,9 @@ def lands(box, spots):
 
 def land_within(box, spots, number):
     """Tell the land of a spot, of a box and spots that aren't refused."""
-    others = [other for other in range(len(spots)) if other != number]
-    return cut_off(box_field(box), spots, number, others)
+    return cut_off(box_field(box), spots, number, others_of(spots, number))
 
 
 def cut_off(field, spots, number, others):
     """Tell what of the field, which has the spot of the number, is no nearer to any of the others."""
-    for other in others:
-        field = cut(field, between(spots[number], spots[other]), other)
-    return field
+    return cut_each(field, [(between(spots[number], spots[other]), other) for other in others])

@@ -4,16 +4,14 @@ from nearlands.errors import NoLot
 from nearlands.lands import cut_off, land_within
 from nearlands.orders import ordered
 from nearlands.points import ahead
-from nearlands.spots import by_place, check_box_and_spots, check_spots
+from nearlands.spots import are_unlike, by_place, check_box_and_spots, check_spots
 
 
 def check_lot(box, spots, lot):
     """Refuse what is wrong with the box and the spots, then a list that is no lot of them."""
     check_box_and_spots(box, spots)
-    if len(lot) == 0 or len(lot) >= len(spots):
-        raise NoLot("a lot has at least one spot, and not all")
-    if min(lot) < 0 or max(lot) >= len(spots) or len(set(lot)) != len(lot):
-        raise NoLot("a lot is made of unlike numbers of spots")
+    if not are_unlike(spots, lot) or len(lot) == len(spots):
+        raise NoLot("a lot is made of unlike numbers of spots, at least one, and not all")
 
 
 def seam(box, spots, lot):

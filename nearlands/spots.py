@@ -54,6 +54,18 @@ def check_number(spots, number):
         raise NoSpot(number)
 
 
+def others_of(spots, number):
+    """Tell the numbers of all spots but one."""
+    return [other for other in range(len(spots)) if other != number]
+
+
+def are_unlike(spots, numbers):
+    """Tell whether these are unlike numbers of spots, at least one."""
+    if len(numbers) == 0 or len(set(numbers)) != len(numbers):
+        return False
+    return min(numbers) >= 0 and max(numbers) < len(spots)
+
+
 def by_place(spots):
     """Tell the numbers of the spots ordered by x, then by y."""
     return sorted(range(len(spots)), key=lambda number: spots[number])

@@ -5,7 +5,7 @@ from nearlands.fields import box_field
 from nearlands.lands import cut_off
 from nearlands.orders import ordered, rising
 from nearlands.points import fraction_of, less, nearest_of, point_of, spot_point, square, turn
-from nearlands.spots import by_place, check_box_and_spots, check_number, check_spots
+from nearlands.spots import by_place, check_box_and_spots, check_number, check_spots, others_of
 
 
 def reach(spots, one, other):
@@ -79,6 +79,11 @@ def ties(spots):
     """Tell the pairs of spots that are tied."""
     check_spots(spots)
     return [(one, other) for one, other, ends in reaches(spots)]
+
+
+def tied_to(spots, number):
+    """Tell the numbers of the spots that are tied to the one of the number, of spots that aren't refused."""
+    return [other for other in others_of(spots, number) if reach_within(spots, number, other) is not None]
 
 
 def rings(spots):

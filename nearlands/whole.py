@@ -1,4 +1,9 @@
-"""Whole numbers: what divides them, and their signs."""
+"""Whole numbers: what is one, what divides them, and their signs."""
+
+
+def is_whole(thing):
+    """Tell whether the thing is a whole number."""
+    return isinstance(thing, int) and not isinstance(thing, bool)
 
 
 def divisor(one, other):

@@ -1,6 +1,8 @@
 """What several tests need: big numbers, and a second way to work things out, by Python's fractions."""
 
 from fractions import Fraction
+from functools import cmp_to_key
+from itertools import combinations
 from math import gcd
 
 from nearlands.errors import LandError, NoSpot
@@ -264,3 +266,98 @@ def lot_lands(box, spots, lot):
     numbers = sorted(lot)
     told = lands(box, [spots[number] for number in numbers])
     return [(corners, [edge if edge < 0 else numbers[edge] for edge in edges]) for corners, edges in told]
+
+
+def expected_field(bounds, called):
+    """Tell the field of the points where a x + b y is at most c for all bounds (a, b, c), None without an inside.
+
+    called tells of the two ends of an edge what it is called by. Where the lines of two bounds cross at a point that
+    keeps to all bounds, there is a corner, and there alone.
+    """
+    corners = set()
+    for (a, b, c), (d, e, f) in combinations(bounds, 2):
+        w = a * e - b * d
+        if w != 0:
+            x, y = (c * e - b * f) * sign_of(w), (a * f - c * d) * sign_of(w)
+            w = abs(w)
+            if all(g * x + h * y <= i * w for g, h, i in bounds):
+                common = gcd(x, y, w)
+                corners.add((x // common, y // common, w // common))
+    first, *others = sorted(corners, key=where) or [None]
+    if len(others) < 2 or all(side_of(first, others[0], corner) == 0 for corner in others):
+        return None
+    # Seen from the first one, the others lie the more to the left the later they come.
+    others.sort(key=cmp_to_key(lambda one, other: -side_of(first, one, other)))
+    way = [first] + others
+    return (way, [called(one, other) for one, other in zip(way, way[1:] + way[:1])])
+
+
+def expected_parting(box, spots, weights=None, far=False):
+    """Tell the lands of the spots (farthest ones, or ones with weights), worked out a second way."""
+    weights = weights or [0] * len(spots)
+    return [expected_part(box, spots, weights, -1 if far else 1, number) for number in range(len(spots))]
+
+
+def expected_part(box, spots, weights, kind, number):
+    x, y, u, v = box
+    sides_of_box = [(0, -1, -y), (1, 0, u), (0, 1, v), (-1, 0, -x)]
+    lines = {}
+    for other, (c, d) in enumerate(spots):
+        a, b = spots[number]
+        if other != number:
+            constant = c * c + d * d - a * a - b * b + weights[number] - weights[other]
+            lines[other] = (2 * (c - a) * kind, 2 * (d - b) * kind, constant * kind)
+
+    def called(one, other):
+        for side, line in enumerate(sides_of_box):
+            if on_line(line, one) and on_line(line, other):
+                return -1 - side
+        across = [at for at, line in lines.items() if on_line(line, one) and on_line(line, other)]
+        (px, py), (qx, qy) = where(one), where(other)
+        # A point to the right of the edge, where the field on the other side is that of the least measure.
+        beyond = point_at((px + qx) / 2 + (qy - py), (py + qy) / 2 - (qx - px))
+        return min(across, key=lambda at: kind * (way_square(beyond, spots[at]) - weights[at]))
+
+    return expected_field(sides_of_box + list(lines.values()), called)
+
+
+def on_line(line, point):
+    return line[0] * point[0] + line[1] * point[1] == line[2] * point[2]
+
+
+def check_parting(test, box, told):
+    """Fail unless these are fields, or None, whose areas come to the box's."""
+    test.assertIs(type(told), list)
+    for field in told:
+        if field is not None:
+            check_field(test, field)
+    whole = 2 * (box[2] - box[0]) * (box[3] - box[1])
+    test.assertEqual(sum(twice_area(field) for field in told if field is not None), whole)
+
+
+def copied_fields(fields):
+    return [None if field is None else copied(field) for field in fields]
+
+
+def spoil(fields):
+    """Change a told list of fields and all lists within it."""
+    for field in fields:
+        if field is not None:
+            field[0].reverse()
+            field[0].pop()
+            field[1].append(99)
+    fields.clear()
+
+
+def moved_field(field, scale, dx, dy):
+    if field is None:
+        return None
+    return ([moved(corner, scale, dx, dy) for corner in field[0]], list(field[1]))
+
+
+GREAT = (big(11) // 10 ** 4, big(12) // 10, -big(13) // 10)
+
+
+def great_case(box, spots):
+    """Tell a small box with spots, scaled and moved to numbers of up to thirty figures."""
+    return moved_case(box, spots, *GREAT)

@@ -3,13 +3,16 @@
 import unittest
 
 from nearlands.errors import NoBox, NoSpot, TooMany
+from nearlands.far import far_lands, least_ring
 from nearlands.fronts import front, passes
 from nearlands.lands import land_of, lands
 from nearlands.meetings import emptiest, holders, meetings
+from nearlands.near import nearest, shows_near, walk
 from nearlands.seams import halves, joined, kept, seam
 from nearlands.spots import check_box_and_spots, check_spots
 from nearlands.takes import takes
 from nearlands.webs import cut_by, reach, rim, rings, ties
+from nearlands.weights import weighted
 from tests.helper import big, check_refused
 
 BOX = (0, 0, 10, 8)
@@ -38,6 +41,9 @@ def with_box(box, spots):
         lambda: joined(box, spots, [0], [], []),
         lambda: joined(box, spots, [-1], [], []),
         lambda: cut_by(box, spots, []),
+        lambda: far_lands(box, spots),
+        lambda: weighted(box, spots, [0] * len(spots)),
+        lambda: weighted(box, spots, None),
     )
 
 
@@ -55,6 +61,13 @@ def alone(spots):
         lambda: ties(spots),
         lambda: rings(spots),
         lambda: rim(spots),
+        lambda: nearest(spots, (1, 1, 1), 1),
+        lambda: nearest(spots, (1, 1, 1), 0),
+        lambda: walk(spots, (1, 1, 1), 0),
+        lambda: walk(spots, (1, 1, 1), -1),
+        lambda: shows_near(spots, (1, 1, 1), [0]),
+        lambda: shows_near(spots, (1, 1, 1), []),
+        lambda: least_ring(spots),
     )
 
 
