@@ -19,6 +19,13 @@ BARRED_WORDS = re.compile(
     r"\b(type|typing|typing_extensions|enum|Enum|IntEnum|StrEnum|Flag|IntFlag|Generic|Protocol|ABC|ABCMeta"
     r"|namedtuple|NamedTuple|TypedDict|TYPE_CHECKING|abstractmethod)\b|dataclass|overload|contextmanager"
 )
+# Methods of builtin values, of L25, that the package uses or may come to use.
+METHODS = set((
+    "append clear copy count endswith extend find get index insert isalnum isalpha isdigit islower isspace isupper "
+    "items join keys ljust lower lstrip partition pop remove replace reverse rfind rjust rpartition rsplit rstrip "
+    "setdefault split splitlines startswith strip update upper values zfill bit_length removeprefix removesuffix rindex "
+    "isascii"
+).split())
 BARRED_NODES = (
     ast.Div, ast.NamedExpr, ast.Global, ast.AsyncFunctionDef, ast.AsyncFor, ast.AsyncWith, ast.Await, ast.Import,
 )
@@ -84,6 +91,46 @@ class LanguageTest(unittest.TestCase):
                     self.assertNotIsInstance(node.value, (float, complex))
                     if isinstance(node.value, str):
                         self.assertNotIn("%", node.value)
+
+    def test_methods(self):
+        trees = [ast.parse(path.read_text(encoding="utf-8")) for path in FILES]
+        nodes = [node for tree in trees for node in ast.walk(tree)]
+        classes = [node for node in nodes if isinstance(node, ast.ClassDef)]
+        own = {part.name for node in classes for part in node.body if isinstance(part, ast.FunctionDef)}
+        stored = {node.attr for node in nodes if isinstance(node, ast.Attribute) and isinstance(node.ctx, ast.Store)}
+        self.assertEqual(own & stored, set())
+        for node in nodes:
+            if isinstance(node, ast.Attribute) and isinstance(node.ctx, ast.Load):
+                self.assertIn(node.attr, METHODS | own | stored)
+
+    def test_keywords_are_few(self):
+        for _, tree in self.each_file():
+            for node in ast.walk(tree):
+                if isinstance(node, ast.keyword):
+                    self.assertIn(node.arg, ("key", "reverse", "default", "start"))
+
+    def test_no_decorators_and_is_only_with_constants(self):
+        for _, tree in self.each_file():
+            for node in ast.walk(tree):
+                if isinstance(node, (ast.FunctionDef, ast.ClassDef)):
+                    self.assertEqual(node.decorator_list, [])
+                if isinstance(node, ast.Compare):
+                    for operator, right in zip(node.ops, node.comparators):
+                        if isinstance(operator, (ast.Is, ast.IsNot)):
+                            self.assertIsInstance(right, ast.Constant)
+
+    def test_no_two_files_import_from_each_other(self):
+        above = {}
+        for path in FILES:
+            tree = ast.parse(path.read_text(encoding="utf-8"))
+            modules = [node.module for node in tree.body if isinstance(node, ast.ImportFrom)]
+            above[path.stem] = {module.partition(".")[2] for module in modules}
+        left = dict(above)
+        while left:
+            free = [name for name in left if not left[name] & set(left)]
+            self.assertTrue(free, left)
+            for name in free:
+                del left[name]
 
     def test_names(self):
         for _, tree in self.each_file():

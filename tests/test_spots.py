@@ -6,11 +6,13 @@ from nearlands.errors import NoBox, NoSpot, TooMany
 from nearlands.far import far_lands, least_ring
 from nearlands.fronts import front, passes
 from nearlands.lands import land_of, lands
+from nearlands.looker import is_far, is_lands, is_weighted
 from nearlands.meetings import emptiest, holders, meetings
 from nearlands.near import nearest, shows_near, walk
 from nearlands.seams import halves, joined, kept, seam
 from nearlands.spots import check_box_and_spots, check_spots
 from nearlands.takes import takes
+from nearlands.trees import least_tree, tree_way
 from nearlands.webs import cut_by, reach, rim, rings, ties
 from nearlands.weights import weighted
 from tests.helper import big, check_refused
@@ -44,6 +46,10 @@ def with_box(box, spots):
         lambda: far_lands(box, spots),
         lambda: weighted(box, spots, [0] * len(spots)),
         lambda: weighted(box, spots, None),
+        lambda: is_lands(box, spots, []),
+        lambda: is_far(box, spots, None),
+        lambda: is_weighted(box, spots, [0] * len(spots), []),
+        lambda: is_weighted(box, spots, None, None),
     )
 
 
@@ -68,6 +74,9 @@ def alone(spots):
         lambda: shows_near(spots, (1, 1, 1), [0]),
         lambda: shows_near(spots, (1, 1, 1), []),
         lambda: least_ring(spots),
+        lambda: least_tree(spots),
+        lambda: tree_way(spots, 0, 0),
+        lambda: tree_way(spots, -1, 99),
     )
 
 
